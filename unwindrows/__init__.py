@@ -1,0 +1,1 @@
+"""Rows that find the callers of a function that is stopped anywhere."""
