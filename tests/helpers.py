@@ -38,7 +38,19 @@ def straight(*steps):
 
 
 def is_plain(thing):
-    """Whether a thing consists of plain tuples, integers and strings."""
+    """Whether a thing consists of plain tuples, integers, strings and None."""
     if type(thing) is tuple:
         return all(is_plain(part) for part in thing)
-    return type(thing) in (int, str)
+    return thing is None or type(thing) in (int, str)
+
+
+# The count of STOPs is 65 at each of PLACE 0, 1, 3 .. 29, 64 at PLACE 2, and at PLACE 30 that of
+# the 65 places of sp from which it can be lowered further by so many.
+def counted(lowered):
+    """A CODE of 31 INSTRUCTIONs with 2,014 - lowered STOPs."""
+    loop = (("branch", 3), ("push", "p"), ("jump", 0))
+    return loop + (("work", "x"),) * 26 + (("grow", lowered), ("return",))
+
+
+MANY = counted(14)
+TOO_MANY = counted(13)

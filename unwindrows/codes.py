@@ -1,6 +1,6 @@
 """CODEs: what an INSTRUCTION is, and what a CODE names."""
 
-from unwindrows.errors import BadCode
+from unwindrows.errors import BadCode, BadPlace
 
 REGISTERS = ("p", "q", "r", "s", "x", "y")
 PRESERVED = ("p", "q", "r", "s")
@@ -93,6 +93,13 @@ def need_code(thing):
     for place, item in enumerate(thing):
         if not _is_instruction(item, len(thing)):
             raise BadCode(place)
+    return thing
+
+
+def need_place(thing, many):
+    """The thing itself, if it is one of so many PLACEs."""
+    if not is_between(thing, 0, many - 1):
+        raise BadPlace(thing)
     return thing
 
 

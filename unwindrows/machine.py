@@ -29,6 +29,17 @@ def stop_of(state):
     return (state.place, state.sp, values, tuple(sorted(state.words.items())))
 
 
+def state_at(stop):
+    """A state of the run of one function that is at a STOP."""
+    place, sp, values, words = stop
+    state = State()
+    state.place = place
+    state.sp = sp
+    state.held = dict(zip(REGISTERS, values))
+    state.words = dict(words)
+    return state
+
+
 def _in_bounds(state, at):
     """Whether word at is one to which sp may point, and which may be stored or loaded."""
     return state.base - MOST_WORDS <= at <= state.base
