@@ -37,7 +37,7 @@ def is_number(thing):
 
 def is_between(thing, least, most):
     """Whether a thing of any kind is an integer from least to most."""
-    return is_number(thing) and least <= thing <= most
+    return isinstance(thing, int) and not isinstance(thing, bool) and least <= thing <= most
 
 
 def is_register(thing):

@@ -1,12 +1,15 @@
 """RULEs: what finds the base, the return address and the registers of a caller.
 
 A FACT is a pair (PART, WHAT) of "base" and a FINDING, or of an ITEM and a WHERE
-other than ("lost",). It holds at a STOP if the FINDING or the WHERE does.
+other than ("lost",). It holds at a STOP if the FINDING or the WHERE does. By its
+CLUE, a pair of where a slot begins and what this slot has to hold, it can be seen
+in a packed state whether it holds.
 """
 
-from unwindrows.codes import MOST_WORDS, REGISTERS, is_basis, is_between, is_register, need_code, need_place
+from unwindrows.codes import MOST_WORDS, REGISTERS, is_basis, is_between, need_code, need_place
 from unwindrows.errors import BadItem, NeverThere
-from unwindrows.states import stops_at
+from unwindrows.packed import ADDRESS_OF_0, BACK, DEPTH, SHIFTS, SLOT, WIDTH, WORDS, steps_of, stop_of
+from unwindrows.states import search
 
 ITEMS = ("back", "p", "q", "r", "s")
 ENTRY = (("sp", 0), (("word", 0), ("in", "p"), ("in", "q"), ("in", "r"), ("in", "s")))
@@ -15,7 +18,7 @@ LOST = ("lost",)
 # The least sp is MOST_WORDS below the base, and an address at most as many below sp.
 MOST_FINDING = 128
 
-# The VALUEs that are looked for in runs of one function.
+# The VALUEs that are looked for in runs of one function, and their marks in packed states.
 MEANT = {
     ("back", "", 0): "back",
     ("first", "p"): "p",
@@ -23,6 +26,7 @@ MEANT = {
     ("first", "r"): "r",
     ("first", "s"): "s",
 }
+MARKS = {"back": BACK, "p": 1, "q": 2, "r": 3, "s": 4}
 
 
 def is_finding(thing):
@@ -33,30 +37,34 @@ def is_finding(thing):
     return is_basis(basis) and is_between(offset, -MOST_WORDS, MOST_FINDING)
 
 
-def is_where(thing):
-    """Whether a thing of any kind is a WHERE."""
-    if not isinstance(thing, tuple) or not thing or not isinstance(thing[0], str):
-        return False
-    word, *parts = thing
-    if word == "lost":
-        return not parts
-    if len(parts) != 1:
-        return False
-    if word == "in":
-        return is_register(parts[0])
-    return word == "word" and is_between(parts[0], -MOST_WORDS, 0)
+def are_wheres(things):
+    """Whether all of some things of any kind are WHEREs."""
+    # TABLEs have many of them, so that this asks without a call for each.
+    for thing in things:
+        if not isinstance(thing, tuple) or not thing or not isinstance(thing[0], str):
+            return False
+        if len(thing) == 2:
+            word, which = thing
+            if isinstance(which, str):
+                is_good = word == "in" and which in REGISTERS
+            else:
+                is_number = isinstance(which, int) and not isinstance(which, bool)
+                is_good = word == "word" and is_number and -MOST_WORDS <= which <= 0
+        else:
+            is_good = len(thing) == 1 and thing[0] == "lost"
+        if not is_good:
+            return False
+    return True
 
 
 def is_rule(finding, sites):
     """Whether two things of any kind are the FINDING and the WHERES of a RULE."""
-    if finding is not None and not is_finding(finding):
+    if not isinstance(sites, tuple) or len(sites) != len(ITEMS) or not are_wheres(sites):
         return False
-    if not isinstance(sites, tuple) or len(sites) != len(ITEMS):
-        return False
-    if not all([is_where(where) for where in sites]):
-        return False
-    # Words are counted from the base, so that they are of no use without it.
-    return finding is not None or not any([where[0] == "word" for where in sites])
+    if finding is None:
+        # Words are counted from the base, so that they are of no use without it.
+        return not any([where[0] == "word" for where in sites])
+    return is_finding(finding)
 
 
 def need_item(thing):
@@ -89,40 +97,44 @@ def facts_at(stop):
     return facts
 
 
-def common_facts(stops):
-    """A dict with all FACTs that hold at all of some STOPs, at least one, as its keys."""
-    first, *others = stops
-    common = facts_at(first)
-    for stop in others:
-        facts = facts_at(stop)
-        common = {fact: True for fact in common if fact in facts}
-    return common
-
-
-def wrong_part(rule, stop):
-    """The first part of a RULE that does not hold at a STOP, or None if the RULE holds."""
-    facts = facts_at(stop)
-    for fact in told_facts(rule):
-        if fact not in facts:
-            return fact[0]
-    return None
-
-
 def holds(rule, stop):
     """Whether a RULE holds at a STOP of a run of one function."""
-    return wrong_part(rule, stop) is None
+    facts = facts_at(stop)
+    return all([fact in facts for fact in told_facts(rule)])
+
+
+def clue_of(fact):
+    """The CLUE of a FACT."""
+    part, (word, which) = fact
+    if part != "base":
+        return (SHIFTS[which] if word == "in" else WORDS - WIDTH * which, MARKS[part])
+    if word == "sp":
+        return (DEPTH, which)
+    return (SHIFTS[word], ADDRESS_OF_0 - which)
+
+
+def common_facts(states):
+    """The list of all FACTs that hold at all of some packed states, at least one."""
+    first = states[0]
+    unlike = 0
+    for state in states:
+        unlike |= state ^ first
+    # What tells a FACT of the first one must be the same in all others.
+    return [fact for fact in facts_at(stop_of(first)) if (unlike >> clue_of(fact)[0]) & SLOT == 0]
 
 
 def _holding(code, place, part):
-    """The ascending tuple of what holds for a part at all STOPs at a PLACE."""
-    stops = [stop for _, stop in stops_at(code, place)]
-    if not stops:
+    """The ascending tuple of what holds for a part at all STOPs at a PLACE of a CODE."""
+    states = [state for state in search(steps_of(code)) if state & SLOT == place]
+    if not states:
         raise NeverThere(place)
-    return tuple(sorted([what for kind, what in common_facts(stops) if kind == part]))
+    return tuple(sorted([what for kind, what in common_facts(states) if kind == part]))
 
 
 def findings(code, place):
     """The ascending tuple of the FINDINGs that hold at all STOPs at a PLACE."""
+    need_code(code)
+    need_place(place, len(code))
     return _holding(code, place, "base")
 
 

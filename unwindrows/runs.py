@@ -2,37 +2,40 @@
 
 from unwindrows.codes import is_number, need_code
 from unwindrows.errors import BadPath
-from unwindrows.machine import State, advance, stop_of
+from unwindrows.packed import SLOT, START, behind, breaks_at, steps_of, stop_of
 
 
-def _walked(code, path):
-    """The state at the end of a PATH of a CODE."""
-    need_code(code)
+def walked(steps, path):
+    """The state at the end of a PATH of the CODE that has these steps."""
     if not isinstance(path, tuple) or not path:
         raise BadPath(None)
-    state = State()
-    places = (0,)
+    state = START
+    states = [START]
     for index, item in enumerate(path):
         if index > 0:
-            places, _ = advance(code, state)
-        if not is_number(item) or item not in places:
+            states = behind(steps, state)
+        there = [other for other in states if is_number(item) and other & SLOT == item]
+        if not there:
             raise BadPath(index)
-        state.place = item
+        state = there[0]
     return state
 
 
 def run(code, path):
     """The STOP to which a PATH leads."""
-    return stop_of(_walked(code, path))
+    need_code(code)
+    return stop_of(walked(steps_of(code), path))
 
 
 def following(code, path):
     """The ascending tuple of the PLACEs at which the run can stop behind a PATH."""
-    places, _ = advance(code, _walked(code, path))
-    return places
+    need_code(code)
+    steps = steps_of(code)
+    return tuple([state & SLOT for state in behind(steps, walked(steps, path))])
 
 
 def breaking(code, path):
     """The ascending tuple of the words with which the run can break behind a PATH."""
-    _, words = advance(code, _walked(code, path))
-    return words
+    need_code(code)
+    steps = steps_of(code)
+    return breaks_at(steps, walked(steps, path))

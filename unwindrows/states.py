@@ -1,79 +1,84 @@
 """All STOPs of a CODE, and its FAULTS."""
 
-from unwindrows.codes import PRESERVED, need_code, need_place
+from unwindrows.codes import need_code, need_place
 from unwindrows.errors import TooMany
-from unwindrows.machine import State, advance, state_at, stop_of
+from unwindrows.packed import PRESERVED_SLOTS, SLOT, START, breaks_at, steps_of, stop_of
 
 MOST_STOPS = 2000
 
 
-def _stops_behind(code, stop):
-    """The STOPs that can be next behind a STOP, by ascending PLACEs."""
-    state = state_at(stop)
-    places, _ = advance(code, state)
-    behind = []
-    for place in places:
-        state.place = place
-        behind.append(stop_of(state))
-    return behind
+def search(steps):
+    """All states of the CODE that has these steps: a dict from each one to the one ahead of it, or None.
 
-
-def first_paths(code):
-    """A dict from the STOPs of a CODE to their first PATHs, in the order of these PATHs."""
-    need_code(code)
-    first = stop_of(State())
-    paths = {first: (0,)}
-    waiting = [first]
-    done = 0
-    # The STOPs wait in the order of their first PATHs. So the one that first
-    # leads to a new STOP does it by the first PATH of that STOP.
-    while done < len(waiting):
-        stop = waiting[done]
-        done += 1
-        for behind in _stops_behind(code, stop):
-            if behind not in paths:
-                paths[behind] = paths[stop] + (behind[0],)
-                waiting.append(behind)
-        if len(paths) > MOST_STOPS:
+    The states are in the order of their first PATHs, and each first PATH leads
+    over that of the state ahead.
+    """
+    found = {START: None}
+    level = [START]
+    # The states of a level have first PATHs of one length, in ascending order.
+    # So the one that first leads to a new state does it by the first PATH of that one.
+    while level:
+        further = []
+        for state in level:
+            # This is packed.behind, written out because it is done for each state.
+            action, instruction, moves, _ = steps[state & SLOT]
+            after = action(state, instruction)
+            if after >= 0:
+                for move in moves:
+                    if after + move not in found:
+                        found[after + move] = state
+                        further.append(after + move)
+        if len(found) > MOST_STOPS:
             raise TooMany(MOST_STOPS)
-    return paths
+        level = further
+    return found
+
+
+def path_to(found, state):
+    """The first PATH to a state that a search has found."""
+    places = []
+    while state is not None:
+        places.append(state & SLOT)
+        state = found[state]
+    return tuple(places[::-1])
 
 
 def count_stops(code):
     """How many STOPs a CODE has."""
-    return len(first_paths(code))
+    need_code(code)
+    return len(search(steps_of(code)))
 
 
 def stops_at(code, place):
     """The STOPs at a PLACE, each as a pair (PATH, STOP), in the order of their first PATHs."""
     need_code(code)
     need_place(place, len(code))
-    return [(path, stop) for stop, path in first_paths(code).items() if stop[0] == place]
+    paths = {None: ()}
+    for state, ahead in search(steps_of(code)).items():
+        paths[state] = paths[ahead] + (state & SLOT,)
+    del paths[None]
+    return [(path, stop_of(state)) for state, path in paths.items() if state & SLOT == place]
 
 
-def _keeps_registers(stop):
-    """Whether the preserved registers hold at a STOP what they held at first."""
-    _, _, values, _ = stop
-    # The preserved registers are the first ones of all, so zip leaves out the others.
-    return all([value == ("first", name) for name, value in zip(PRESERVED, values)])
-
-
-def _faults_at(code, stop):
-    """The FAULTS that happen at a STOP."""
-    _, words = advance(code, state_at(stop))
-    place = stop[0]
-    if code[place][0] == "return" and not words and not _keeps_registers(stop):
+def _faults_at(steps, state):
+    """The FAULTS that happen at a state."""
+    words = breaks_at(steps, state)
+    is_return = steps[state & SLOT][1][0] == "return"
+    if is_return and not words and state & PRESERVED_SLOTS != START & PRESERVED_SLOTS:
         return ("vow",)
     return words
 
 
 def faults(code):
     """A dict from the FAULTS of a CODE, ascending, to their first PATHs."""
-    found = {}
-    for stop, path in first_paths(code).items():
-        for word in _faults_at(code, stop):
-            found.setdefault(word, path)
-    return {word: found[word] for word in sorted(found)}
+    need_code(code)
+    steps = steps_of(code)
+    found = search(steps)
+    first = {}
+    for state in found:
+        for word in _faults_at(steps, state):
+            first.setdefault(word, state)
+    return {word: path_to(found, first[word]) for word in sorted(first)}
 
 
 def is_sound(code):

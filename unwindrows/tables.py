@@ -2,16 +2,9 @@
 
 from unwindrows.codes import MOST_CODE, is_between, need_code, need_place
 from unwindrows.errors import BadTable
-from unwindrows.rules import ITEMS, LOST, PARTS, common_facts, is_rule, told_facts, wrong_part
-from unwindrows.states import first_paths
-
-
-def _is_row(thing, least, most):
-    """Whether a thing of any kind is a row with a PLACE from least to most."""
-    if not isinstance(thing, tuple) or len(thing) != 3:
-        return False
-    place, finding, sites = thing
-    return is_between(place, least, most) and is_rule(finding, sites)
+from unwindrows.packed import SLOT, steps_of
+from unwindrows.rules import ITEMS, LOST, PARTS, clue_of, common_facts, is_rule, told_facts
+from unwindrows.states import path_to, search
 
 
 def _need_rows(thing, many):
@@ -21,9 +14,12 @@ def _need_rows(thing, many):
     least = 0
     most = 0
     for index, item in enumerate(thing):
-        if not _is_row(item, least, most):
+        if not isinstance(item, tuple) or len(item) != 3:
             raise BadTable(index)
-        least = item[0] + 1
+        place, finding, sites = item
+        if not is_between(place, least, most) or not is_rule(finding, sites):
+            raise BadTable(index)
+        least = place + 1
         most = many - 1
     return thing
 
@@ -33,7 +29,7 @@ def need_table(thing):
     return _need_rows(thing, MOST_CODE)
 
 
-def _rule_of(table, place):
+def rule_of(table, place):
     """The RULE of a PLACE in what is known to be a TABLE."""
     _, finding, sites = [row for row in table if row[0] <= place][-1]
     return (finding, sites)
@@ -43,27 +39,39 @@ def rule_at(table, place):
     """The RULE of a PLACE from 0 to 59."""
     need_table(table)
     need_place(place, MOST_CODE)
-    return _rule_of(table, place)
+    return rule_of(table, place)
+
+
+def _wrong_part(facts, clues, state):
+    """The part of the first of some FACTs that does not hold at a packed state, or None."""
+    for (part, _), (shift, held) in zip(facts, clues):
+        if (state >> shift) & SLOT != held:
+            return part
+    return None
 
 
 def check_table(code, table):
     """None if a TABLE is right, or the first PATH to where it is not, with the part that is wrong."""
     need_code(code)
     _need_rows(table, len(code))
-    rules = [_rule_of(table, place) for place in range(len(code))]
-    for stop, path in first_paths(code).items():
-        part = wrong_part(rules[stop[0]], stop)
+    facts = [told_facts(rule_of(table, place)) for place in range(len(code))]
+    clues = [[clue_of(fact) for fact in told] for told in facts]
+    found = search(steps_of(code))
+    for state in found:
+        place = state & SLOT
+        part = _wrong_part(facts[place], clues[place], state)
         if part is not None:
-            return (path, part)
+            return (path_to(found, state), part)
     return None
 
 
-def _choices_at(stops):
-    """What a FULL TABLE can tell at these STOPs: a dict from parts to lists, None for no STOPs."""
-    if not stops:
+def _choices_at(states):
+    """What a FULL TABLE can tell at these packed states: a dict from parts to lists, None for no states."""
+    if not states:
         return None
-    common = common_facts(stops)
-    choices = {part: [what for kind, what in common if kind == part] for part in PARTS}
+    choices = {part: [] for part in PARTS}
+    for part, what in common_facts(states):
+        choices[part].append(what)
     if not choices["base"]:
         # Words are counted from the base, so that they cannot be told without it.
         for item in ITEMS:
@@ -73,10 +81,10 @@ def _choices_at(stops):
 
 def _all_choices(code):
     """What a FULL TABLE can tell at each PLACE of a CODE."""
-    stops = [[] for _ in code]
-    for stop in first_paths(code):
-        stops[stop[0]].append(stop)
-    return [_choices_at(there) for there in stops]
+    states = [[] for _ in code]
+    for state in search(steps_of(code)):
+        states[state & SLOT].append(state)
+    return [_choices_at(there) for there in states]
 
 
 def gaps(code, table):
@@ -86,7 +94,7 @@ def gaps(code, table):
     found = []
     for place, choices in enumerate(_all_choices(code)):
         if choices is not None:
-            told = [part for part, _ in told_facts(_rule_of(table, place))]
+            told = [part for part, _ in told_facts(rule_of(table, place))]
             found += [(place, part) for part in PARTS if choices[part] and part not in told]
     return tuple(found)
 
