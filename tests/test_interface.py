@@ -11,6 +11,8 @@ FUNCTIONS = {
         "need_table": ["thing"], "rule_at": ["table", "place"], "check_table": ["code", "table"],
         "gaps": ["code", "table"], "least_table": ["code"],
     },
+    "papers": {"clash": ["code", "place", "part"], "check_clash": ["code", "place", "part", "paths"]},
+    "scripts": {"need_script": ["thing"], "expanded": ["groups"], "size_of": ["groups"], "written": ["table"]},
 }
 CONSTANTS = {
     "codes": {"REGISTERS": tuple, "PRESERVED": tuple, "MOST_CODE": int, "MOST_WORDS": int},

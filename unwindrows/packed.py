@@ -31,6 +31,8 @@ ADDRESS_OF_0 = 136
 START = (1 << 16) + (2 << 24) + (3 << 32) + (4 << 40) + (5 << 48) + (6 << 56) + (BACK << WORDS)
 PRESERVED_SLOTS = (SLOT << 16) + (SLOT << 24) + (SLOT << 32) + (SLOT << 40)
 X_AND_Y = (SLOT << 48) + (SLOT << 56)
+# The depth and the registers.
+FINDING_SLOTS = (1 << WORDS) - (1 << DEPTH)
 
 # What an action returns instead of a state, and the words of the breaks.
 NO_SP = -1

@@ -123,11 +123,17 @@ def common_facts(states):
     return [fact for fact in facts_at(stop_of(first)) if (unlike >> clue_of(fact)[0]) & SLOT == 0]
 
 
-def _holding(code, place, part):
-    """The ascending tuple of what holds for a part at all STOPs at a PLACE of a CODE."""
-    states = [state for state in search(steps_of(code)) if state & SLOT == place]
+def states_at(found, place):
+    """Those of the states that a search has found that are at a PLACE, at least one."""
+    states = [state for state in found if state & SLOT == place]
     if not states:
         raise NeverThere(place)
+    return states
+
+
+def _holding(code, place, part):
+    """The ascending tuple of what holds for a part at all STOPs at a PLACE of a CODE."""
+    states = states_at(search(steps_of(code)), place)
     return tuple(sorted([what for kind, what in common_facts(states) if kind == part]))
 
 
