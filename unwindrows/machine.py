@@ -1,4 +1,8 @@
-"""What INSTRUCTIONs do to the stack pointer, the registers and the words."""
+"""What INSTRUCTIONs do in a process, where the stack goes on through many calls.
+
+For runs of one function unwindrows.packed does the same, much faster: there is
+just one call, so that all that a register or a word can hold fits into a few bits.
+"""
 
 from unwindrows.codes import MOST_WORDS, REGISTERS
 
@@ -7,37 +11,18 @@ HOME = ("back", "", 0)
 
 
 class State:
-    """Where a run is: at first at the beginning of the run of one function.
+    """What the call that runs can see: at first, at its beginning, call 0.
 
-    The words that hold ("any",) have no key in words, so that equal states
-    have equal dicts.
+    The words that hold ("any",) have no key in words.
     """
 
     def __init__(self):
         self.number = 0
         self.base = 0
         self.back = HOME
-        self.place = 0
         self.sp = 0
         self.held = {name: ("first", name) for name in REGISTERS}
         self.words = {0: HOME}
-
-
-def stop_of(state):
-    """The STOP at which a state is."""
-    values = tuple([state.held[name] for name in REGISTERS])
-    return (state.place, state.sp, values, tuple(sorted(state.words.items())))
-
-
-def state_at(stop):
-    """A state of the run of one function that is at a STOP."""
-    place, sp, values, words = stop
-    state = State()
-    state.place = place
-    state.sp = sp
-    state.held = dict(zip(REGISTERS, values))
-    state.words = dict(words)
-    return state
 
 
 def _in_bounds(state, at):
@@ -149,16 +134,16 @@ def _load(state, instruction):
     return None
 
 
-def lose(state):
+def _lose(state):
     """What a call loses, as it is seen by the caller."""
-    for name in ("x", "y"):
-        state.held[name] = ANY
+    state.held["x"] = ANY
+    state.held["y"] = ANY
     state.words = {at: value for at, value in state.words.items() if at >= state.sp}
 
 
 def _call(state, instruction):
-    # The NAME tells nothing here: no other function is known in a run of one.
-    lose(state)
+    # The NAME tells nothing here: this is a call of a function that is not known.
+    _lose(state)
     return None
 
 
@@ -190,31 +175,26 @@ ACTIONS = {
 }
 
 
-def _places_behind(code, place):
-    """The ascending PLACEs to which an INSTRUCTION leads; len(code) is behind the last one."""
-    instruction = code[place]
-    if instruction[0] == "return":
-        return ()
-    if instruction[0] == "jump":
-        return (instruction[1],)
-    if instruction[0] == "branch":
-        return tuple(sorted({instruction[1], place + 1}))
-    return (place + 1,)
-
-
-def advance(code, state):
-    """Does the INSTRUCTION at which a state is, and tells what can be next.
-
-    Returns a pair: the ascending PLACEs at which the run can stop next, and
-    the words with which it can break. The PLACE of the state stays, for its
-    holder to choose.
-    """
-    instruction = code[state.place]
+def do(state, instruction):
+    """Does an INSTRUCTION, but for where it goes on. Returns the word with which it breaks, or None."""
     action = ACTIONS[instruction[0]]
-    broken = action(state, instruction)
-    if broken is not None:
-        return (), (broken,)
-    places = _places_behind(code, state.place)
-    if len(code) in places:
-        return places[:-1], ("end",)
-    return places, ()
+    return action(state, instruction)
+
+
+def enter(state, back):
+    """Begins a call of a function that is known, with its return address."""
+    state.number += 1
+    state.sp -= 1
+    state.base = state.sp
+    state.back = back
+    state.words = {at: value for at, value in state.words.items() if at > state.base}
+    state.words[state.base] = back
+
+
+def resume(state, sp, base, back):
+    """Goes on in the caller, behind the return of the call that runs, with what the caller had."""
+    state.number -= 1
+    state.sp = sp
+    state.base = base
+    state.back = back
+    _lose(state)
