@@ -71,6 +71,9 @@ class Clashes(unittest.TestCase):
 
     def sized(self, many, code, place, part):
         self.assertEqual(len(self.good(code, place, part)), many)
+        stops = [stop for _, stop in stops_at(code, place)]
+        if part == "base" and len(stops) <= 14:
+            self.assertEqual(fewest(stops, part), many)
 
     def test_example(self):
         self.assertEqual(clash(FORK, 2, "base"), ((0, 1, 2), (0, 2)))
@@ -128,6 +131,36 @@ class Clashes(unittest.TestCase):
         ways = [[("grow", 1), ("point", name, 0), ("shrink", 1)] for name in "pq"] + [[("grow", 2)]]
         code, last = spread([("point", "p", 0), ("point", "q", 0)], ways)
         self.sized(3, code, last, "base")
+
+    def test_the_fewest_are_not_the_first_ones(self):
+        # The first way needs more others than the second one does, or fewer.
+        breaks = [[("point", name, k), ("work", "x")] for name in "pq" for k in (1, 2, 3)]
+        low, both = [("grow", 1)], [("grow", 1), ("work", "p")]
+        head = [("point", "p", 0), ("point", "q", 0)]
+        for ways in ([low, both], [both, low]):
+            code, last = spread(head, ways + breaks)
+            self.sized(2, code, last, "base")
+        head.append(("point", "r", 0))
+        breaks += [[("point", "r", k)] for k in (1, 2, 3)]
+        for ways in ([low, both], [both, low]):
+            code, last = spread(head[:3], ways + breaks)
+            self.sized(3, code, last, "base")
+
+    def test_two_that_have_little_in_common_with_the_others(self):
+        # Each two of the others have sp in common, each of them and one of the two a register.
+        ways = [[("grow", 1), ("work", "p"), ("work", "q")], [("grow", 2), ("work", "r"), ("work", "s")]]
+        ways += [[("point", name, k)] for name in "pqrs" for k in (1, 2)]
+        for order in (ways, ways[::-1]):
+            code, last = spread([("point", name, 0) for name in "pqrs"], order)
+            self.sized(2, code, last, "base")
+
+    def test_addresses_at_the_ends_of_the_bounds(self):
+        head = [("grow", 64), ("point", "x", -64), ("shrink", 64), ("point", "y", 64)]
+        ways = [[("grow", k)] for k in range(1, 5)] + [[("work", "x")], [("work", "y")]]
+        code, last = spread(head, ways)
+        self.sized(3, code, last, "base")
+        self.assertIsNone(clash(*spread(head, ways[:4] + ways[4:5]), "base"))
+        self.assertIsNone(clash(*spread(head, ways[:4] + ways[5:]), "base"))
 
     def test_loops(self):
         for place in (0, 1, 3):

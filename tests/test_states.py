@@ -58,6 +58,16 @@ class Counting(unittest.TestCase):
         turn = (("move", "x", "p"), ("move", "p", "q"), ("move", "q", "r"), ("move", "r", "x"), ("branch", 0))
         self.counts(4 + 5 * 3, *turn, ("return",))
 
+    def test_where_nothing_is_known(self):
+        # The second time round no register and no word holds anything that is known.
+        code = tuple(("work", name) for name in "pqrsxy") + (("store", "sp", 0, "p"), ("jump", 0))
+        self.counts(8 + 7, *code)
+        path = tuple(range(8)) * 2
+        self.assertEqual(stops_at(code, 0)[1], (path[:9], (0, 0, (ANY,) * 6, ())))
+        self.assertEqual(run(code, path + (0, 1)), (1, 0, (ANY,) * 6, ()))
+        self.assertEqual(breaking(code, path + (0,)), ())
+        self.assertEqual(faults(code[:7]), {"end": (0, 1, 2, 3, 4, 5, 6)})
+
     def test_loops_that_push_until_the_bound(self):
         self.counts(65 + 64, ("push", "p"), ("jump", 0))
         self.counts(65 + 65 + 64 + 65, *LOOP)

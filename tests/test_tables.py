@@ -187,6 +187,23 @@ class Checking(unittest.TestCase):
         ):
             self.assertEqual(check_table(PAIR, changed(FULL, 2, item, what)), (path, item))
 
+    def test_findings_in_registers(self):
+        for name in REGISTERS:
+            for grown, offset, finding in ((1, 0, 1), (1, 3, -2), (5, -5, 10), (64, -64, 128), (1, 64, -63)):
+                code = (("grow", grown), ("point", name, offset), ("return",))
+                rows = ((0, None, ALL_LOST), (2, (name, finding), ALL_LOST))
+                self.assertIsNone(check_table(code, rows))
+                for other in (finding - 1, finding + 1, -finding, 0):
+                    if -64 <= other <= 128:
+                        wrong = changed(rows, 1, "base", (name, other))
+                        self.assertEqual(check_table(code, wrong), ((0, 1, 2), "base"))
+            code = (("point", name, 64), ("return",))
+            self.assertIsNone(check_table(code, ((0, None, ALL_LOST), (1, (name, -64), ALL_LOST))))
+
+    def test_findings_that_hold_nowhere(self):
+        for offset in (-64, -1, 65, 128):
+            self.assertEqual(check_table(PAIR, ((0, ("sp", offset), KEPT),)), ((0,), "base"))
+
     def test_the_first_wrong_part(self):
         wrong = (("word", -9),) * 5
         self.assertEqual(check_table(PAIR, ((0, ("sp", 7), wrong),)), ((0,), "base"))

@@ -2,31 +2,25 @@
 
 from unwindrows.codes import MOST_CODE, is_between
 from unwindrows.errors import BadScript
-from unwindrows.rules import ENTRY, PARTS, are_wheres, is_finding, is_rule
+from unwindrows.rules import ENTRY, PARTS, is_rule
 from unwindrows.tables import need_table
 
 MOST_KEEPS = 60
 
 
 def _are_sets(thing):
-    """Whether a thing of any kind is a tuple of pairs (PART, WHAT) in their order."""
+    """Whether a thing of any kind is a tuple of pairs of a PART and something, in the order of PARTS."""
     if not isinstance(thing, tuple):
         return False
     parts = list(PARTS)
     for pair in thing:
         if not isinstance(pair, tuple) or len(pair) != 2:
             return False
-        part, what = pair
+        part, _ = pair
         if not isinstance(part, str) or part not in parts:
             return False
         # Only what comes behind it in the order may follow.
         parts = parts[parts.index(part) + 1:]
-        if part == "base":
-            is_good = what is None or is_finding(what)
-        else:
-            is_good = are_wheres((what,))
-        if not is_good:
-            return False
     return True
 
 
@@ -65,6 +59,7 @@ def _done(thing):
             finding, sites = pile.pop()
         finding, *others = _replaced((finding, *sites), sets)
         sites = tuple(others)
+        # This refuses, too, what is set for a part and cannot be one.
         if not is_rule(finding, sites):
             raise BadScript(index)
         rows.append((place, finding, sites))
