@@ -10,12 +10,12 @@ Packed states can be kept in dicts and compared slot by slot much faster than
 STOPs, and a search meets many of them.
 """
 
-from unwindrows.codes import MOST_WORDS, REGISTERS
+from unwindrows.codes import MOST_WORDS
 
 WIDTH = 8
 SLOT = 255
 
-# Where slots begin, in bits.
+# Where slots begin, in bits; the registers are in the order of REGISTERS.
 DEPTH = 8
 SHIFTS = {"p": 16, "q": 24, "r": 32, "s": 40, "x": 48, "y": 56}
 WORDS = 64
@@ -28,17 +28,17 @@ BACK = 7
 LEAST_ADDRESS = 8
 ADDRESS_OF_0 = 136
 
-START = (1 << 16) + (2 << 24) + (3 << 32) + (4 << 40) + (5 << 48) + (6 << 56) + (BACK << WORDS)
-PRESERVED_SLOTS = (SLOT << 16) + (SLOT << 24) + (SLOT << 32) + (SLOT << 40)
-X_AND_Y = (SLOT << 48) + (SLOT << 56)
-# The depth and the registers.
-FINDING_SLOTS = (1 << WORDS) - (1 << DEPTH)
+START = (1 << 16) + (2 << 24) + (3 << 32) + (4 << 40) + (5 << 48) + (6 << 56) + (7 << 64)
+# All bits of the slots of p, q, r and s, of x and y, and of the depth and all registers.
+PRESERVED_SLOTS = (1 << 48) - (1 << 16)
+X_AND_Y = (1 << 64) - (1 << 48)
+FINDING_SLOTS = (1 << 64) - (1 << 8)
 
-# What an action returns instead of a state, and the words of the breaks.
+# What an action returns instead of a state, and the words of these breaks.
 NO_SP = -1
 WILD = -2
 NO_RETURN = -3
-BREAKS = {NO_SP: "sp", WILD: "wild", NO_RETURN: "return"}
+BREAKS = {-1: "sp", -2: "wild", -3: "return"}
 
 
 def _put(state, shift, mark):
@@ -212,7 +212,7 @@ def value_of(mark):
 
 def stop_of(state):
     """The STOP at which a state is."""
-    values = tuple([value_of((state >> SHIFTS[name]) & SLOT) for name in REGISTERS])
+    values = tuple([value_of((state >> shift) & SLOT) for shift in SHIFTS.values()])
     words = []
     marks = state >> WORDS
     at = 0

@@ -8,7 +8,7 @@ in a packed state whether it holds.
 
 from unwindrows.codes import MOST_WORDS, REGISTERS, is_basis, is_between, need_code, need_place
 from unwindrows.errors import BadItem, NeverThere
-from unwindrows.packed import ADDRESS_OF_0, BACK, DEPTH, SHIFTS, SLOT, WIDTH, WORDS, steps_of, stop_of
+from unwindrows.packed import ADDRESS_OF_0, DEPTH, SHIFTS, SLOT, WIDTH, WORDS, steps_of, stop_of
 from unwindrows.states import search
 
 ITEMS = ("back", "p", "q", "r", "s")
@@ -18,7 +18,7 @@ LOST = ("lost",)
 # The least sp is MOST_WORDS below the base, and an address at most as many below sp.
 MOST_FINDING = 128
 
-# The VALUEs that are looked for in runs of one function, and their marks in packed states.
+# The VALUEs that are looked for in runs of one function, and their MARKs in packed states.
 MEANT = {
     ("back", "", 0): "back",
     ("first", "p"): "p",
@@ -26,7 +26,7 @@ MEANT = {
     ("first", "r"): "r",
     ("first", "s"): "s",
 }
-MARKS = {"back": BACK, "p": 1, "q": 2, "r": 3, "s": 4}
+MARKS = {"back": 7, "p": 1, "q": 2, "r": 3, "s": 4}
 
 
 def is_finding(thing):
@@ -41,17 +41,17 @@ def are_wheres(things):
     """Whether all of some things of any kind are WHEREs."""
     # TABLEs have many of them, so that this asks without a call for each.
     for thing in things:
-        if not isinstance(thing, tuple) or not thing or not isinstance(thing[0], str):
+        if not isinstance(thing, tuple):
             return False
         if len(thing) == 2:
             word, which = thing
             if isinstance(which, str):
-                is_good = word == "in" and which in REGISTERS
+                is_good = isinstance(word, str) and word == "in" and which in REGISTERS
             else:
                 is_number = isinstance(which, int) and not isinstance(which, bool)
-                is_good = word == "word" and is_number and -MOST_WORDS <= which <= 0
+                is_good = isinstance(word, str) and word == "word" and is_number and -MOST_WORDS <= which <= 0
         else:
-            is_good = len(thing) == 1 and thing[0] == "lost"
+            is_good = len(thing) == 1 and isinstance(thing[0], str) and thing[0] == "lost"
         if not is_good:
             return False
     return True
