@@ -1,6 +1,6 @@
 """Runs of one function along PATHs."""
 
-from unwindrows.codes import is_number, need_code
+from unwindrows.codes import is_between, is_number, need_code
 from unwindrows.errors import BadPath
 from unwindrows.packed import SLOT, START, behind, breaks_at, steps_of, stop_of
 
@@ -9,15 +9,16 @@ def walked(steps, path):
     """The state at the end of a PATH of the CODE that has these steps."""
     if not isinstance(path, tuple) or not path:
         raise BadPath(None)
+    if not is_between(path[0], 0, 0):
+        raise BadPath(0)
     state = START
-    states = [START]
-    for index, item in enumerate(path):
-        if index > 0:
-            states = behind(steps, state)
-        there = [other for other in states if is_number(item) and other & SLOT == item]
-        if not there:
+    for index, item in enumerate(path[1:], start=1):
+        place = state & SLOT
+        action, instruction, moves, _ = steps[place]
+        after = action(state, instruction)
+        if after < 0 or not is_number(item) or item - place not in moves:
             raise BadPath(index)
-        state = there[0]
+        state = after + item - place
     return state
 
 
